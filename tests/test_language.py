@@ -125,3 +125,48 @@ class Language(unittest.TestCase):
                     if isinstance(sign, (ast.Is, ast.IsNot)):
                         self.assertIsInstance(side, ast.Constant, (name, node.lineno))
                         self.assertIn(side.value, (None, True, False), (name, node.lineno))
+
+    def test_no_name_is_a_method_and_a_value(self):
+        methods = {part.name for _, node in walked() if isinstance(node, ast.ClassDef)
+                   for part in node.body if isinstance(part, ast.FunctionDef)}
+        values = {node.attr for _, node in walked() if isinstance(node, ast.Attribute)
+                  and isinstance(node.ctx, ast.Store)}
+        self.assertEqual(methods & values, set())
+        pythons = {name for kind in (str, int, list, dict, set, bytes, tuple) for name in dir(kind)}
+        self.assertEqual((methods | values) & pythons - {"__init__"}, set())
+
+    def test_no_parameter_or_local_is_called_like_an_import_or_a_class(self):
+        for path in files():
+            tree = ast.parse(path.read_text("ascii"))
+            taken = {drawn.name for node in tree.body if isinstance(node, ast.ImportFrom) for drawn in node.names}
+            taken |= {node.name for node in tree.body if isinstance(node, ast.ClassDef)}
+            bound = {node.arg for node in ast.walk(tree) if isinstance(node, ast.arg)}
+            bound |= {node.id for node in ast.walk(tree) if isinstance(node, ast.Name)
+                      and isinstance(node.ctx, ast.Store)}
+            self.assertEqual(taken & bound, set(), path.name)
+
+    def test_value_error_is_taken_round_int_alone(self):
+        for name, node in walked():
+            if isinstance(node, ast.Try):
+                self.assertEqual([handler.type.id for handler in node.handlers], ["ValueError"], name)
+                self.assertEqual(len(node.body), 1, (name, node.lineno))
+                self.assertRegex(ast.unparse(node.body[0]), r"\A[a-z]+ = int\([a-z]+\)\Z", name)
+
+    def test_sets_are_only_sorted(self):
+        for name, node in walked():
+            self.assertNotIsInstance(node, ast.Set, name)
+            calls = [ast.unparse(node)] if isinstance(node, ast.Call) else []
+            for call in calls:
+                if call.startswith("set("):
+                    self.assertIn("sorted(" + call + ")", (PACKAGE / name).read_text("ascii"), name)
+
+    def test_no_two_files_draw_from_one_another(self):
+        drawn = {}
+        for path in files():
+            drawn[path.stem] = {node.module.split(".")[1] for node in ast.parse(path.read_text("ascii")).body
+                                if isinstance(node, ast.ImportFrom)}
+        while drawn:
+            free = [name for name in drawn if not drawn[name] & set(drawn)]
+            self.assertNotEqual(free, [], drawn)
+            for name in free:
+                drawn.pop(name)
