@@ -4,6 +4,7 @@ from cutline.errors import BadText
 from cutline.lines import empty_line, line_of
 
 LONGEST_VALUE = 12
+MOST_FIGURES = 60
 
 
 def shown_run(start, end, value):
@@ -19,9 +20,16 @@ def shown(line):
     return ", ".join(written)
 
 
+def figures_of(text):
+    return text[1:] if text.startswith("-") else text
+
+
 def place_read(text):
     if text == "":
         return None
+    # Asked of the text, as Python itself refuses to make numbers of very many figures.
+    if len(figures_of(text)) > MOST_FIGURES:
+        raise BadText(f"a place is written in at most {MOST_FIGURES} figures")
     try:
         place = int(text)
     except ValueError:

@@ -155,7 +155,7 @@ def written(at, places=NEAR):
     return ", ".join(parts)
 
 
-FIGURES = r"(?:0|-?[1-9][0-9]*)?"
+FIGURES = r"(?:0|-?[1-9][0-9]{0,59})?"
 RUN = re.compile("(" + FIGURES + r")\.\.(" + FIGURES + ") ([a-z]{1,12})")
 
 

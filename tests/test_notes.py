@@ -1,8 +1,10 @@
 import unittest
 from itertools import product
 
+from cutline.asks import first_room
+from cutline.deeds import closed, opened, put
 from cutline.errors import BadText
-from cutline.lines import Line, empty_line, line_of, same
+from cutline.lines import Line, empty_line, line_of, same, value_at
 from cutline.notes import read, shown
 from tests.oracle import NEAR, is_written, tellings, told, written
 
@@ -62,6 +64,13 @@ class NotesTest(unittest.TestCase):
         self.assertIsInstance(line, Line)
         self.assertEqual((line.cuts, line.holds), (cuts, holds))
 
+    def refuses(self, text):
+        try:
+            read(text)
+        except BadText:
+            return True
+        return False
+
 
 class Shown(NotesTest):
     def test_lines_told_by_hand(self):
@@ -90,10 +99,6 @@ class Read(NotesTest):
         for text, cuts, holds in WRITTEN:
             self.check(read(text), cuts, holds)
 
-    def test_somewhat_more_figures_than_sixty(self):
-        line = line_of([-10 ** 75, 10 ** 80], ["a", None, "b"])
-        self.check(read(shown(line)), line.cuts, line.holds)
-
     def test_what_is_written_is_read_to_the_same_line(self):
         for cuts, holds in tellings((-12, 0, 7), (None, "a", "bc"), 3):
             line = line_of(cuts, holds)
@@ -112,13 +117,6 @@ class Read(NotesTest):
 
 
 class Refused(NotesTest):
-    def refuses(self, text):
-        try:
-            read(text)
-        except BadText:
-            return True
-        return False
-
     def test_texts_told_by_hand(self):
         for text in REFUSED:
             self.assertTrue(self.refuses(text), repr(text))
@@ -152,3 +150,91 @@ class Refused(NotesTest):
             text = "".join(parts)
             if not self.refuses(text):
                 self.assertEqual(shown(read(text)), text)
+
+
+def around(place):
+    """Tellings of lines with a cut at a far place: at a start and at an end, in the first run and in a later one."""
+    yield [place], [None, "a"]
+    yield [place], ["a", None]
+    yield [place], ["a", "b"]
+    if place > 0:
+        yield [0, place], [None, "a", None]
+        yield [-5, -3, place], [None, "a", None, "b"]
+        yield [-5, -3, place], ["a", None, "b", None]
+        yield [-5, 0, 3, place], [None, "a", None, "b", None]
+        yield [-5, 3, place - 1, place], ["a", None, "b", "a", None]
+        yield [place - 1, place], ["a", None, "b"]
+    else:
+        yield [place, 0], [None, "a", None]
+        yield [place, 3, 5], [None, "a", None, "b"]
+        yield [place, 3, 5], ["a", None, "b", None]
+        yield [place, 0, 3, 5], [None, "a", None, "b", None]
+        yield [place, place + 1, 3], ["a", None, "b", None]
+        yield [place, place + 1, place + 2], ["a", None, "b", None]
+
+
+class LongPlaces(NotesTest):
+    def check_figures(self, count, is_let):
+        for place in (10 ** (count - 1), 10 ** count - 1):
+            for signed in (place, -place):
+                for cuts, holds in around(signed):
+                    text = shown(line_of(cuts, holds))
+                    self.assertIn(str(signed), text)
+                    self.assertEqual(is_written(text), is_let, text)
+                    self.assertEqual(self.refuses(text), not is_let, text)
+                    if is_let:
+                        self.check(read(text), cuts, holds)
+
+    def test_fifty_nine_figures_are_read(self):
+        self.check_figures(59, True)
+
+    def test_sixty_figures_are_read(self):
+        self.check_figures(60, True)
+
+    def test_sixty_one_figures_are_refused(self):
+        self.check_figures(61, False)
+
+    def test_many_more_figures_are_refused(self):
+        for count in (62, 100, 900, 4000):
+            self.check_figures(count, False)
+
+    def test_more_figures_than_python_makes_numbers_of_are_refused(self):
+        long = "1" + "0" * 9999
+        for text in (long + ".. a", ".." + long + " a", "-" + long + ".. a", "..-" + long + " a",
+                     "0..1 a, " + long + ".. b"):
+            self.assertTrue(self.refuses(text))
+
+    def test_the_text_of_the_fault(self):
+        self.assertTrue(self.refuses("-1000..-996 a, 1" + "0" * 60 + ".. a"))
+        self.check(read("-1000..-996 a, 1" + "0" * 59 + ".. a"), [-1000, -996, 10 ** 59], [None, "a", None, "a"])
+
+    def test_texts_written_out(self):
+        for first, let in (("9" * 59, True), ("9" * 60, True), ("9" * 61, False)):
+            for text in ("-" + first + ".." + first + " a",
+                         "-" + first + "..-7 a, 7.." + first + " a",
+                         ".." + first + " a",
+                         "-" + first + ".. a",
+                         "..-" + first + " a, -" + first + ".." + first + " b, " + first + ".. a",
+                         "-" + "9" * 60 + "..0 a, 0.." + first + " b",
+                         "-" + first + "..0 a, 0.." + "9" * 60 + " b"):
+                self.assertEqual(not self.refuses(text), let, text)
+
+    def test_sixty_one_signs_that_are_no_place(self):
+        for signs in ("0" * 61, "0" + "9" * 60, "-0" + "9" * 59, "-0" + "9" * 60, "--" + "9" * 59, "--" + "9" * 60,
+                      "+" + "9" * 59, "+" + "9" * 60, "-" + "0" * 60):
+            for text in (signs + ".. a", ".." + signs + " a"):
+                self.assertTrue(self.refuses(text), text)
+
+    def test_the_number_of_figures_counts_a_place_not_the_text(self):
+        line = line_of([-SIXTY, -SIXTY + 1, SIXTY - 1, SIXTY], ["a", "b", None, "c", None])
+        self.check(read(shown(line)), line.cuts, line.holds)
+
+    def test_a_line_with_a_long_place_is_refused_by_nothing_else(self):
+        far = 10 ** 60
+        line = put(read("..0 a, 5..9 b"), far, far + 1, "c")
+        self.assertEqual(shown(line), f"..0 a, 5..9 b, {far}..{far + 1} c")
+        self.assertEqual(value_at(line, far), "c")
+        self.assertEqual(first_room(line, "c", 9, 1), far)
+        near = opened(closed(line, 0, far), 0, 9)
+        self.assertEqual(shown(near), "..0 a, 9..10 c")
+        self.assertTrue(same(read(shown(near)), near))
